@@ -1,0 +1,1 @@
+"""Latestow: a file store that never breaks a promise of room."""
