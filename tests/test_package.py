@@ -1,17 +1,59 @@
 """What ../shared/LANGUAGE.md says of the package's files and can be seen without running them."""
 
 import ast
+import inspect
 import pathlib
 import re
 import unittest
 
 import latestow
-from latestow.spans import Spans
+from latestow import maps, tree
+from latestow.disk import Disk
+from latestow.limits import Limits
+from latestow.spans import Spans, stretches
 
 FOLDER = pathlib.Path(latestow.__file__).parent
 BARRED = re.compile(
     r"\b(type|typing|typing_extensions|enum|Enum|IntEnum|StrEnum|Flag|IntFlag|Generic|Protocol|ABC|ABCMeta|namedtuple"
     r"|NamedTuple|TypedDict|TYPE_CHECKING|abstractmethod)\b|dataclass|overload|contextmanager"
+)
+# Each class with the methods that the interface lists for it.
+TOLD = (
+    (Spans, "__len__ __eq__ __repr__ __str__ blocks runs has more less pieces"),
+    (Disk, "put barrier read addresses cut fuse"),
+    (Limits, "rule note asks tick since now shown"),
+)
+PARAMETERS = (
+    (stretches, "(blocks)"),
+    (Spans, "(blocks=())"),
+    (Spans.has, "(self, block)"),
+    (Spans.more, "(self, blocks)"),
+    (Spans.less, "(self, blocks)"),
+    (Spans.pieces, "(self, many)"),
+    (Disk, "(size)"),
+    (Disk.put, "(self, address, row)"),
+    (Disk.barrier, "(self)"),
+    (Disk.read, "(self, address)"),
+    (Disk.addresses, "(self)"),
+    (Disk.cut, "(self, *, through=0)"),
+    (Disk.fuse, "(self, many, *, through=0)"),
+    (maps.worst, "(pages, *, node=3, sheet=6)"),
+    (maps.charge, "(pages)"),
+    (maps.runs_of, "(places)"),
+    (maps.places_of, "(runs)"),
+    (maps.packed, "(runs)"),
+    (maps.unpacked, "(first, sheets)"),
+    (tree.fits, "(path)"),
+    (tree.parent, "(path)"),
+    (tree.chain, "(path)"),
+    (Limits, "(*, grace=5)"),
+    (Limits.rule, "(self, whose, charge, *, soft=None, hard=None)"),
+    (Limits.note, "(self, whose, charge)"),
+    (Limits.asks, "(self, whose, was, will)"),
+    (Limits.tick, "(self, many=1)"),
+    (Limits.since, "(self, whose)"),
+    (Limits.now, "(self)"),
+    (Limits.shown, "(self)"),
 )
 
 
@@ -59,8 +101,15 @@ class PackageTest(unittest.TestCase):
         self.assertEqual(methods & attributes, set())
 
     def test_told_methods_stand_in_the_class_itself(self):
-        for name in ("__len__", "__eq__", "__repr__", "__str__", "blocks", "runs", "has", "more", "less", "pieces"):
-            self.assertIn(name, vars(Spans))
+        for owner, names in TOLD:
+            for name in names.split():
+                with self.subTest(owner.__name__, method=name):
+                    self.assertIn(name, vars(owner))
+
+    def test_told_parameters_have_their_names(self):
+        for function, told in PARAMETERS:
+            with self.subTest(function.__qualname__):
+                self.assertEqual(str(inspect.signature(function)), told)
 
 
 if __name__ == "__main__":
