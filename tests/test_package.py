@@ -10,7 +10,9 @@ import latestow
 from latestow import maps, tree
 from latestow.disk import Disk
 from latestow.limits import Limits
+from latestow.papers import Census, adds_up, bears
 from latestow.spans import Spans, stretches
+from latestow.stow import placed
 
 FOLDER = pathlib.Path(latestow.__file__).parent
 BARRED = re.compile(
@@ -22,6 +24,7 @@ TOLD = (
     (Spans, "__len__ __eq__ __repr__ __str__ blocks runs has more less pieces"),
     (Disk, "put barrier read addresses cut fuse"),
     (Limits, "rule note asks tick since now shown"),
+    (Census, "__len__ __eq__ __str__"),
 )
 PARAMETERS = (
     (stretches, "(blocks)"),
@@ -54,6 +57,10 @@ PARAMETERS = (
     (Limits.since, "(self, whose)"),
     (Limits.now, "(self)"),
     (Limits.shown, "(self)"),
+    (placed, "(free, pages)"),
+    (Census, "(size, held, put_by, pledged, spare)"),
+    (adds_up, "(census)"),
+    (bears, "(census, plan)"),
 )
 
 
