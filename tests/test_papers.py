@@ -232,8 +232,16 @@ class BearsTest(unittest.TestCase):
                     self.assertIs(bears(self.census, self.changed(at, (path, page, beyond))), False)
             self.assertIs(bears(self.census, self.changed(at, (path, page, 11))), True)
 
+    def test_the_first_and_the_last_block(self):
+        census = Census(4, [()] * 4, [("/a", 2, 0)], [], 2)
+        self.assertIs(bears(census, [("/a", 1, 0), ("/a", 2, 3)]), True)
+        self.assertIs(bears(census, [("/a", 1, 0), ("/a", 2, 4)]), False)
+
     def test_a_page_twice(self):
         self.assertIs(bears(self.census, self.changed(1, ("/a", 2, 3))), False)
+        for page in (0, 1, 59):
+            plan = [("/a", page, 1), ("/a", page, 3)] + self.plan[2:]
+            self.assertIs(bears(self.census, plan), False)
 
     def test_a_page_below_nought(self):
         self.assertIs(bears(self.census, self.changed(1, ("/a", -2, 3))), False)
