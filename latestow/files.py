@@ -55,6 +55,14 @@ class File:
             return "kept"
         return "aside"
 
+    def blocks_laid(self):
+        return [self.places[page][0] for page in self.places]
+
+    def blocks_staying(self):
+        """The blocks that a settling of this file would not let go."""
+        return [self.places[page][0] for page in self.places
+                if page not in self.late or self.is_settled_as(page, ASIDE)]
+
     def map_rows(self):
         return runs_of(self.places)
 
@@ -107,6 +115,13 @@ class File:
         """The map as it is now is that of the last settling, with its sheets in these blocks."""
         self.before = len(self.places)
         self.sheets = list(sheets)
+
+    def remains(self):
+        """What the disk still has of the file when it is gone."""
+        other = File(self.owner)
+        other.before = self.before
+        other.sheets = list(self.sheets)
+        return other
 
     def twin_for(self, owner):
         """A younger file with the written pages of this one, in the same blocks."""

@@ -15,6 +15,21 @@ class Limits:
         # Since when a charge is above its soft limit; whose charge is not above has no entry.
         self.begins = {}
 
+    def copied(self):
+        other = Limits(grace=self.grace)
+        other.time = self.time
+        other.bars = dict(self.bars)
+        other.begins = dict(self.begins)
+        return other
+
+    def bring_up(self, time, rows):
+        """Sets the time and all limits as they were shown; whether they are above is still to be noted."""
+        self.time = time
+        for whose, soft, hard, began in rows:
+            self.bars[whose] = (soft, hard)
+            if began is not None:
+                self.begins[whose] = began
+
     def rule(self, whose, charge, *, soft=None, hard=None):
         """Sets both limits anew; without any the limit is taken away."""
         if soft is None and hard is None:
@@ -25,6 +40,9 @@ class Limits:
 
     def bar_of(self, whose):
         return self.bars.get(whose, (None, None))
+
+    def has_bar(self, whose):
+        return whose in self.bars
 
     def note(self, whose, charge):
         """The charge is now as told: a beginning is set where there is none, or ends."""

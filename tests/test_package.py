@@ -8,8 +8,11 @@ import unittest
 
 import latestow
 from latestow import maps, tree
+from latestow.desk import Desk
 from latestow.disk import Disk
+from latestow.keeper import Keeper
 from latestow.limits import Limits
+from latestow.looker import look, mend
 from latestow.papers import Census, adds_up, bears
 from latestow.spans import Spans, stretches
 from latestow.stow import placed
@@ -25,6 +28,10 @@ TOLD = (
     (Disk, "put barrier read addresses cut fuse"),
     (Limits, "rule note asks tick since now shown"),
     (Census, "__len__ __eq__ __str__"),
+    (Keeper, "make fold drop write reserve hole shorten twin move give limit tick pledge part release settle mark back"
+             " files folders owner_of read pages_of runs_of sheets_of charge_of left behind free pledges limits now"
+             " census plan"),
+    (Desk, "line together"),
 )
 PARAMETERS = (
     (stretches, "(blocks)"),
@@ -61,6 +68,46 @@ PARAMETERS = (
     (Census, "(size, held, put_by, pledged, spare)"),
     (adds_up, "(census)"),
     (bears, "(census, plan)"),
+    (Keeper, "(disk, *, grace=5)"),
+    (Keeper.make, "(self, path, *, owner=0)"),
+    (Keeper.fold, "(self, path)"),
+    (Keeper.drop, "(self, path)"),
+    (Keeper.write, "(self, path, page, values, *, by=None)"),
+    (Keeper.reserve, "(self, path, page, many, *, by=None)"),
+    (Keeper.hole, "(self, path, page, many)"),
+    (Keeper.shorten, "(self, path, pages)"),
+    (Keeper.twin, "(self, path, to, *, owner=None, by=None)"),
+    (Keeper.move, "(self, path, to)"),
+    (Keeper.give, "(self, path, owner)"),
+    (Keeper.limit, "(self, whose, *, soft=None, hard=None)"),
+    (Keeper.tick, "(self, many=1)"),
+    (Keeper.pledge, "(self, many)"),
+    (Keeper.part, "(self, ticket, many)"),
+    (Keeper.release, "(self, ticket)"),
+    (Keeper.settle, "(self, path=None)"),
+    (Keeper.mark, "(self)"),
+    (Keeper.back, "(self, mark)"),
+    (Keeper.files, "(self)"),
+    (Keeper.folders, "(self)"),
+    (Keeper.owner_of, "(self, path)"),
+    (Keeper.read, "(self, path, page, many=1)"),
+    (Keeper.pages_of, "(self, path)"),
+    (Keeper.runs_of, "(self, path)"),
+    (Keeper.sheets_of, "(self, path)"),
+    (Keeper.charge_of, "(self, whose)"),
+    (Keeper.left, "(self)"),
+    (Keeper.behind, "(self)"),
+    (Keeper.free, "(self)"),
+    (Keeper.pledges, "(self)"),
+    (Keeper.limits, "(self)"),
+    (Keeper.now, "(self)"),
+    (Keeper.census, "(self)"),
+    (Keeper.plan, "(self)"),
+    (look, "(disk)"),
+    (mend, "(disk)"),
+    (Desk, "(keeper)"),
+    (Desk.line, "(self, text)"),
+    (Desk.together, "(self, lines)"),
 )
 
 
