@@ -23,8 +23,7 @@ def check_file(hand, path):
 
 
 def check_new_path(hand, path):
-    """A path at which a new thing may stand."""
-    check_below_root(path)
+    """A path at which a new thing may stand; the root has no folder, and is refused like what is no path."""
     folder = parent(path)
     if not hand.has_folder(folder):
         raise NoFolder(folder)

@@ -227,6 +227,20 @@ class CopyTest(unittest.TestCase):
         twin.take_away(0, 60)
         self.assertEqual(len(file.places), 4)
 
+    def test_remains(self):
+        file = self.made()
+        other = file.remains()
+        self.assertEqual(state(other), (2, {}, {}, {}, 4, [50]))
+        other.sheets.append(9)
+        self.assertEqual(state(file), state(self.made()))
+        self.assertEqual(other.room_taken(), worst(4))
+
+    def test_blocks(self):
+        file = self.made()
+        self.assertEqual(file.blocks_laid(), [100, 101, 102, 103])
+        # Page 1 is written and late besides, page 2 is set aside and late besides.
+        self.assertEqual(file.blocks_staying(), [100, 102, 103])
+
     def test_as_if_settled(self):
         file = self.made()
         other = file.as_if_settled()

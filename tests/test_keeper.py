@@ -661,6 +661,24 @@ class ToldTest(KeeperCase):
             one.back(mark)
         self.assertEqual(other.read("/a", 0), [2])
 
+    def test_a_disk_and_its_like(self):
+        """All of a store is in the rows of its disk."""
+        keeper = self.full()
+        keeper.settle()
+        like = Disk(60)
+        for address in self.disk.addresses():
+            like.put(address, self.disk.read(address))
+        like.barrier()
+        other = Keeper(like)
+        before = state_of(Keeper(self.disk))
+        self.assertEqual(state_of(other), before)
+        other.drop("/a")
+        other.tick(3)
+        other.settle()
+        like.cut()
+        self.assertEqual(state_of(Keeper(self.disk)), before)
+        self.assertEqual((Keeper(like).files(), keeper.read("/a", 1)), ([], [1]))
+
 
 if __name__ == "__main__":
     unittest.main()

@@ -418,5 +418,29 @@ class ShownTest(LimitsCase):
         self.let(one, "/a", 5, 6)
 
 
+class CopyTest(LimitsCase):
+    def test_a_copy_and_its_original_know_nothing_of_one_another(self):
+        some = Limits(grace=2)
+        some.tick(3)
+        some.rule(1, 7, soft=5, hard=9)
+        other = some.copied()
+        self.assertEqual((other.shown(), other.now(), other.grace), ([(1, 5, 9, 3)], 3, 2))
+        other.tick(2)
+        other.rule(1, 7)
+        other.rule("/", 1, soft=0)
+        self.assertEqual((some.shown(), some.now()), ([(1, 5, 9, 3)], 3))
+
+    def test_brought_up(self):
+        some = Limits(grace=2)
+        rows = [(1, 5, 9, 3), (2, 5, None, None), ("/", 5, None, 1), ("/d", None, 4, None)]
+        some.bring_up(6, rows)
+        self.assertEqual((some.shown(), some.now()), (rows, 6))
+        for whose in (1, 2, "/d"):
+            some.note(whose, 7)
+        some.note("/", 5)
+        self.assertEqual(some.shown(), [(1, 5, 9, 3), (2, 5, None, 6), ("/", 5, None, None), ("/d", None, 4, None)])
+        self.assertEqual((some.has_bar(1), some.has_bar(3)), (True, False))
+
+
 if __name__ == "__main__":
     unittest.main()
