@@ -7,7 +7,7 @@ def blocks_of(pieces):
     """The blocks of pieces, one by one, in the order of the pieces."""
     blocks = []
     for first, many in pieces:
-        blocks.extend(range(first, first + many))
+        blocks.extend(list(range(first, first + many)))
     return blocks
 
 

@@ -17,6 +17,10 @@ from latestow.papers import Census, adds_up, bears
 from latestow.spans import Spans, stretches
 from latestow.stow import placed
 
+# What is walked on the spot and never kept (L23), and the calls within which it may stand.
+WALKED = ("zip", "enumerate", "reversed", "range")
+WALKED_METHODS = ("items", "keys", "values")
+WALKERS = ("list", "tuple", "dict", "sorted", "sum", "any", "all", "enumerate", "zip", "bytes", "min", "max")
 FOLDER = pathlib.Path(latestow.__file__).parent
 BARRED = re.compile(
     r"\b(type|typing|typing_extensions|enum|Enum|IntEnum|StrEnum|Flag|IntFlag|Generic|Protocol|ABC|ABCMeta|namedtuple"
@@ -115,6 +119,34 @@ def files():
     return sorted(FOLDER.rglob("*.py"))
 
 
+def is_walked(node):
+    if not isinstance(node, ast.Call):
+        return False
+    if isinstance(node.func, ast.Attribute):
+        return node.func.attr in WALKED_METHODS
+    return isinstance(node.func, ast.Name) and node.func.id in WALKED
+
+
+def walked_here(node):
+    """What stands where it is walked on the spot: behind the `in` of a loop, or first in a call that walks it."""
+    if isinstance(node, (ast.For, ast.comprehension)):
+        return [node.iter]
+    if not isinstance(node, ast.Call):
+        return []
+    if isinstance(node.func, ast.Name) and node.func.id in WALKERS:
+        return node.args[:1] if len(node.args) == 1 or node.func.id not in ("min", "max") else []
+    if isinstance(node.func, ast.Attribute) and node.func.attr == "join" and isinstance(node.func.value, ast.Constant):
+        return node.args
+    return []
+
+
+def kept_rows(text):
+    """The rows in which a range and the like is not walked on the spot."""
+    nodes = list(ast.walk(ast.parse(text)))
+    walked = [id(here) for node in nodes for here in walked_here(node)]
+    return [node.lineno for node in nodes if is_walked(node) and id(node) not in walked]
+
+
 class PackageTest(unittest.TestCase):
     def test_the_folder_holds_nothing_but_files_of_the_program(self):
         others = [p for p in FOLDER.rglob("*") if p.suffix != ".py" and "__pycache__" not in p.parts]
@@ -143,6 +175,21 @@ class PackageTest(unittest.TestCase):
                 self.assertNotIsInstance(node, ast.Import)
                 if isinstance(node, ast.ImportFrom):
                     self.assertTrue(node.module.startswith("latestow."), path.name)
+
+    def test_ranges_and_the_like_are_walked_on_the_spot(self):
+        for path in files():
+            with self.subTest(path.name):
+                self.assertEqual(kept_rows(path.read_text()), [])
+
+    def test_what_is_kept_is_found(self):
+        good = ("for k in range(3): pass", "[k for k, v in d.items()]", "xs.extend(list(range(3)))", "max(d.values())",
+                "','.join(d.keys())", "list(enumerate(zip(xs, ys)))", "{k for k in reversed(xs)}")
+        bad = ("xs.extend(range(3))", "k = d.items()", "max(1, d.values())", "f(zip(xs, ys))", "s.join(d.keys())",
+               "[range(3)]", "zip(xs, range(3))", "xs += enumerate(ys)", "x in d.values()")
+        for text in good:
+            self.assertEqual(kept_rows(text), [], text)
+        for text in bad:
+            self.assertIn(1, kept_rows(text), text)
 
     def test_no_name_is_a_method_and_an_attribute(self):
         methods, attributes = set(), set()
