@@ -32,8 +32,8 @@ ALONE = ("settle", "left", "files")
 
 
 def is_path_word(word):
-    # A sign that is as good as a blank, like a line's end, is part of no word.
-    return word.startswith("/") and word.split() == [word]
+    # Whatever else is in it, a tab or a line's end too: whether it is a path is for the deed to say.
+    return word.startswith("/")
 
 
 def is_number_word(word):

@@ -15,11 +15,11 @@ TWELVE = "9" * 12
 # Lines that are none, whatever stands in the store.
 NO_LINES = (
     "", " ", "  ", "\n", "hello", "LEFT", "Left", "left ", " left", "left\n", "left left", "left /a", "files 1", "files ",
-    "settle ", "settle /a ", "settle  /a", "settle a", "settle /a /b", "settle 1", "settle\n", "settle /a\n", "make",
+    "settle ", "settle /a ", "settle  /a", "settle a", "settle /a /b", "settle 1", "settle\n", "settle\t/a", "make",
     "make /b", "make /b 1 2", "make b 1", "make /b x", "make /b -1", "make /b 01", "make /b +1", "make /b 1\n",
     "make  /b 1", "make /b  1", "make /b\t1", "make /b 1 ", "make 1 /b", "make /b 1234567890123", "make /b 00",
     "make /b " + "\u0661", "make /b \u00b2", "make /b 1.0", "make /b 1_0", "make /b 0x1", "fold", "fold b", "fold /b /c",
-    "fold /b\n", "drop", "drop a", "drop /a /b", "drop /a\n", "drop /a\r", "drop /a\x0b", "drop \n/a", "write",
+    "fold\t/b", "drop", "drop a", "drop /a /b", "drop \n/a", "drop\n/a", "drop \t/a", "\ndrop /a", "\tleft", "write",
     "write /a", "write /a 0", "write a 0 1", "write /a x 1", "write /a 0 x", "write /a 0 1 x", "write /a 0 1 ",
     "write /a 0  1", "write /a 0 01", "write /a -1 1", "write /a 0 -1", "write /a 0 1234567890123", "write /a 00 1",
     "write 1 /a 0 1", "draw", "draw 1", "draw 1 /a", "draw 1 /a 0", "draw /a 0 1", "draw x /a 0 1", "draw 01 /a 0 1",
@@ -32,7 +32,20 @@ NO_LINES = (
     "part 1 2 3", "part /a 1", "part 1 -1", "release", "release 1 2", "release -1", "release x", "read /a", "read /a 0",
     "read /a 0 1 2", "read a 0 1", "read /a 0 -1", "charge", "charge x", "charge 1 2", "charge -", "charge -1",
     "charge /a /b", "charge 01", "read /a 0 1\n", "yes", "none", "mark", "back", "census", "plan", "now", "free",
-    "behind", "pledges", "limits", "folders", "owner_of /a", "do_left",
+    "behind", "pledges", "limits", "folders", "owner_of /a", "do_left", "tick 1\n", "tick \t1", "charge 1\t", "charge \n/",
+    "limit 1 -\n -", "limit 1 - -\n", "limit \t1 - -", "limit 1\n - -", "write /a 0\n 1", "write /a 0 1\t", "draw 1\n /a 0 1",
+    "twin /a\n/b", "twin /a \n/b", "twin \t/a /b", "files\n", "files\t", "settle \n/a", "release 1\n", "give /a\n 1\n",
+)
+# Each place of a line in which a PATH may stand; the things beside it are there.
+PATH_PLACES = (
+    "make {} 1", "fold {}", "drop {}", "write {} 0 5", "draw 1 {} 0 5", "reserve {} 0 1", "hole {} 0 1", "shorten {} 0",
+    "twin {} /c", "twin /a {}", "move {} /c", "move /a {}", "give {} 1", "limit {} 1 1", "limit {} - -", "settle {}",
+    "read {} 0 1", "charge {}",
+)
+# Words that begin as a path does and are none.
+ODD_PATHS = (
+    "/\n", "/a\n", "/\na", "/a\nb", "/\t", "/a\t", "/a\tb", "/a\r", "/a\x0b", "/a\x0c", "/a\x1c", "/a\x85", "/a\u00a0",
+    "/a\u2028", "/\u3000", "/\n/a", "/a/\t", "/\n\n", "/a\x00", "/-", "//", "/A", "/a\n1",
 )
 
 
@@ -120,8 +133,27 @@ class LineTest(DeskCase):
                 self.assertEqual(self.desk.line(text), "no BadLine")
         self.assertEqual((state_of(self.keeper), self.disk.writes), (before, writes))
 
+    def test_a_word_that_begins_with_a_stroke_is_a_path_word(self):
+        self.lines(("make /a 0", "yes"), ("write /a 0 1", "yes"), ("settle", "yes"), ("pledge 2", "1"))
+        before, writes = state_of(self.keeper), self.disk.writes
+        for place in PATH_PLACES:
+            for word in ODD_PATHS:
+                self.lines((place.format(word), f"no BadPath {word}"))
+                self.undone(1, f"BadPath {word}" if not place.startswith("settle") else "NotHere",
+                            ["fold /b", place.format(word), "left"])
+        self.assertEqual((state_of(self.keeper), self.disk.writes), (before, writes))
+
+    def test_the_deed_says_which_of_two_odd_paths_is_told(self):
+        self.lines(
+            ("make /a 0", "yes"), ("twin / /\n", "no NoFile /"), ("twin /no /\n", "no NoFile /no"),
+            ("twin /\t /\n", "no BadPath /\t"), ("move / /\n", "no NoFile /"), ("move /\t /\n", "no BadPath /\t"),
+            ("make /b\n 99", "no BadPath /b\n"), ("write /a\t 99 5", "no BadPath /a\t"),
+        )
+
     def test_gone(self):
         self.disk.cut()
+        for text in ("twin / /\n", "fold /b\t", "charge /\n", "settle /a\n"):
+            self.lines((text, "no Gone"))
         for text in ("left", "files", "settle", "settle /a", "make / 99", "drop //", "tick 1", "charge 99", "release 1",
                      "read /a 99 99", "pledge 0", "limit 99 - -", "draw 1 /a 0 1"):
             self.lines((text, "no Gone"))
